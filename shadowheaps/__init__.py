@@ -1,0 +1,1 @@
+"""Shadowheaps: families of sets, and the shadows they throw."""
