@@ -18,6 +18,18 @@ WORDS_LEFT_OUT = re.compile(
     r"|namedtuple|NamedTuple|TypedDict|TYPE_CHECKING|abstractmethod)\b|dataclass|overload|contextmanager"
 )
 
+METHODS = set(
+    "append clear copy count endswith extend find get index insert isalnum isalpha isdigit islower isspace isupper"
+    " items join keys ljust lower lstrip partition pop remove replace reverse rfind rjust rpartition rsplit rstrip"
+    " setdefault split splitlines startswith strip update upper values zfill bit_length".split()
+)
+
+FORMS_LEFT_OUT = (
+    ast.With, ast.Match, ast.Delete, ast.Global, ast.Nonlocal, ast.Assert, ast.Yield, ast.YieldFrom,
+    ast.AsyncFunctionDef, ast.AsyncFor, ast.AsyncWith, ast.Await, ast.SetComp, ast.DictComp, ast.GeneratorExp,
+    ast.NamedExpr, ast.Starred, ast.Div, ast.MatMult,
+)
+
 
 def bound_names(tree):
     names = set()
@@ -61,6 +73,39 @@ class Plain(unittest.TestCase):
             self.assertFalse(bound & PYTHONS_OWN, path.name)
             used = {node.id for node in ast.walk(tree) if isinstance(node, ast.Name)}
             self.assertEqual(used - bound - PYTHONS_OWN, set(), path.name)
+
+    def test_forms_and_methods(self):
+        for path, tree in self.trees.items():
+            for node in ast.walk(tree):
+                where = (path.name, getattr(node, "lineno", None))
+                self.assertNotIsInstance(node, FORMS_LEFT_OUT, where)
+                if isinstance(node, ast.Constant):
+                    self.assertNotIsInstance(node.value, (float, complex, bytes), where)
+                elif isinstance(node, ast.Attribute):
+                    self.assertIn(node.attr, METHODS, where)
+                elif isinstance(node, (ast.For, ast.While)):
+                    self.assertEqual(node.orelse, [], where)
+                elif isinstance(node, ast.Assign):
+                    self.assertEqual(len(node.targets), 1, where)
+                    self.assertIsInstance(node.targets[0], (ast.Name, ast.Subscript), where)
+                elif isinstance(node, ast.FunctionDef):
+                    self.assertEqual(node.decorator_list, [], where)
+
+    def test_plain_names(self):
+        for path, tree in self.trees.items():
+            for name in bound_names(tree):
+                self.assertRegex(name, r"^[A-Za-z][A-Za-z0-9_]*$", path.name)
+
+    def test_no_two_files_draw_from_one_another(self):
+        drawn = {
+            "shadowheaps." + path.stem: {node.module for node in ast.walk(tree) if isinstance(node, ast.ImportFrom)}
+            for path, tree in self.trees.items()
+        }
+        while drawn:
+            free = [name for name, others in drawn.items() if not others & set(drawn)]
+            self.assertTrue(free, drawn)
+            for name in free:
+                drawn.pop(name)
 
     def test_signs_words_and_sizes(self):
         for path, source in self.sources.items():

@@ -4,21 +4,11 @@ import itertools
 import math
 import unittest
 
-from shadowheaps.errors import BadFamily, BadSet, HeapError, NoSuch, NoText
+from shadowheaps.errors import BadSet, NoSuch
 from shadowheaps.sets import choices, number_of, set_at
+from tests.helpers import RefusalCase, all_sets, put, stands_ahead
 
-REFUSALS = (BadSet, NoSuch, BadFamily, NoText)
 SIZES = range(9)
-
-
-def stands_ahead(one, other):
-    """The order of point 3, word for word."""
-    return max(set(one) - set(other)) < max(set(other) - set(one))
-
-
-def in_order(things, size):
-    """All sets of a size of things less than `things`, in the order of point 3."""
-    return sorted(itertools.combinations(range(things), size), key=lambda one: one[::-1])
 
 
 def sampled_numbers(size):
@@ -28,23 +18,6 @@ def sampled_numbers(size):
     around_new_things = [math.comb(thing, size) + off for thing in range(60) for off in (-1, 0, 1)]
     numbers = {*range(80), *range(last - 80, last + 1), *spread, *around_new_things}
     return sorted(number for number in numbers if 0 <= number <= last)
-
-
-class RefusalCase(unittest.TestCase):
-
-    def assert_refused(self, refusal, call, *handed):
-        with self.assertRaises(refusal) as caught:
-            call(*handed)
-        self.assertIsInstance(caught.exception, HeapError)
-        self.assertIsInstance(caught.exception, ValueError)
-        for other in REFUSALS:
-            if other is not refusal:
-                self.assertNotIsInstance(caught.exception, other)
-
-    def assert_plain_set(self, one):
-        self.assertIs(type(one), tuple)
-        for thing in one:
-            self.assertIs(type(thing), int)
 
 
 class Choices(unittest.TestCase):
@@ -105,7 +78,7 @@ class Order(RefusalCase):
         self.assertEqual([number_of(one) for one in shown], [0, 1, 2, 3])
 
     def test_all_sets_of_two_things(self):
-        for number, one in enumerate(in_order(60, 2)):
+        for number, one in enumerate(all_sets(60, 2)):
             self.assertEqual(set_at(2, number), one)
             self.assertEqual(number_of(one), number)
 
@@ -115,7 +88,7 @@ class Order(RefusalCase):
             self.assertEqual(number_of((thing,)), thing)
 
     def test_all_sets_of_three_things(self):
-        for number, one in enumerate(in_order(60, 3)):
+        for number, one in enumerate(all_sets(60, 3)):
             self.assertEqual(number_of(one), number)
 
     def test_the_number_is_how_many_stand_ahead(self):
@@ -179,10 +152,6 @@ class ThereAndBack(RefusalCase):
         self.assertIs(type(number_of(())), int)
         self.assert_refused(NoSuch, set_at, 0, 1)
         self.assert_refused(NoSuch, set_at, 0, -1)
-
-
-def put(one, place, thing):
-    return one[:place] + (thing,) + one[place + 1:]
 
 
 class BadSets(RefusalCase):
